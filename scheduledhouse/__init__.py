@@ -1,0 +1,1 @@
+"""Building by workers under a schedule."""
