@@ -6,6 +6,8 @@ END = 0
 START = 1
 ANSWER = 2
 
+MOST_LOSSES = 3
+
 
 def wanted_marks(house):
     """Give for each job, at the place of its number, whether it is wanted."""
@@ -36,13 +38,21 @@ def is_blocked(house):
     return not house.keeps_going and any([is_failed(job) for job in house.jobs])
 
 
+def needs_are_there(house, job):
+    """Whether all that the job needs is there."""
+    for need in job.needs:
+        if not is_there(house.jobs[need]):
+            return False
+    return True
+
+
 def may_start(house, job, free):
     """Whether a wanted job can be started with this many free workers."""
     if not job.answered or job.cached or is_running(job):
         return False
     if free < workers_for(house, job):
         return False
-    return all([is_there(house.jobs[need]) for need in job.needs])
+    return needs_are_there(house, job)
 
 
 def possible_events(house):
@@ -69,7 +79,7 @@ def happen(house, event):
     if event[0] == END:
         end_job(job)
     elif event[0] == START:
-        job.taken = workers_for(house, job)
+        start_job(house, job)
     else:
         answer_job(job)
     settle(house)
@@ -84,11 +94,26 @@ def end_job(job):
         job.outcome = BUILT
 
 
+def start_job(house, job):
+    """Let the job be running from now on."""
+    job.taken = workers_for(house, job)
+    house.starts += 1
+
+
 def answer_job(job):
     """Let the cache answer for the job."""
     job.answered = True
     if job.cached:
         job.outcome = FETCHED
+
+
+def lose_running(house, job):
+    """Let a running job be lost, and settle the house behind it."""
+    job.taken = 0
+    job.losses += 1
+    if job.losses == MOST_LOSSES:
+        fail(job, job.number)
+    settle(house)
 
 
 def settle(house):
@@ -103,7 +128,12 @@ def settle(house):
 
 def settle_job(house, job):
     """Let the job be failed if all its needs are ended and one at least is failed."""
-    needed = [house.jobs[need] for need in job.needs]
-    causes = [other.cause for other in needed if is_failed(other)]
-    if len(causes) > 0 and all([is_ended(other) for other in needed]):
+    causes = []
+    for need in job.needs:
+        needed = house.jobs[need]
+        if not is_ended(needed):
+            return
+        if is_failed(needed):
+            causes.append(needed.cause)
+    if len(causes) > 0:
         fail(job, min(causes))

@@ -1,6 +1,7 @@
 """A list of calls on one new house, and what they answer."""
 
-from scheduledhouse.calls import add_goals, add_job, drop_goals, forget_failures, list_events, set_keep, set_workers
+from scheduledhouse.calls import add_goals, add_job, drop_goals, fix_job, forget_failures, list_events
+from scheduledhouse.calls import lose_job, run_schedule, set_keep, set_workers, tell_counts, tell_status
 from scheduledhouse.state import House
 
 CALL_JOB = 0
@@ -9,7 +10,11 @@ CALL_KEEP = 2
 CALL_GOAL = 3
 CALL_DROP = 4
 CALL_EVENTS = 5
-CALL_FORGET = 11
+CALL_RUN = 6
+CALL_LOSE = 7
+CALL_STATUS = 8
+CALL_COUNTS = 9
+CALL_FIX = 10
 
 # At the place of each call's number: how many whole numbers it has, and whether a row is behind them.
 WHOLE_NUMBERS = (3, 1, 1, 0, 0, 0, 0, 1, 1, 0, 1, 0)
@@ -17,7 +22,7 @@ HAS_ROW = (True, False, False, True, True, False, True, False, False, False, Fal
 
 
 class UnknownCall(ValueError):
-    """A call whose number is none of those that are answered."""
+    """A number stands where a call begins, and is no call's."""
 
 
 class Call:
@@ -59,10 +64,18 @@ def answer_call(house, call):
         return drop_goals(house, call.row)
     if call.kind == CALL_EVENTS:
         return list_events(house)
-    if call.kind == CALL_FORGET:
-        return forget_failures(house)
-    kind = call.kind
-    raise UnknownCall(f"the call {kind} is not answered yet")
+    if call.kind == CALL_RUN:
+        return run_schedule(house, call.row)
+    if call.kind == CALL_LOSE:
+        return lose_job(house, call.numbers[0])
+    if call.kind == CALL_STATUS:
+        return tell_status(house, call.numbers[0])
+    if call.kind == CALL_COUNTS:
+        return tell_counts(house)
+    if call.kind == CALL_FIX:
+        return fix_job(house, call.numbers[0])
+    # Reading has let no number through that is no call's, so what is left is forget.
+    return forget_failures(house)
 
 
 def answers(calls):

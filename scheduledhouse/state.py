@@ -1,4 +1,4 @@
-"""What a house keeps from one call to the next: its jobs, its workers, whether it keeps going."""
+"""What a house keeps from one call to the next: its jobs, its workers, whether it keeps going, its starts."""
 
 UNENDED = 0
 BUILT = 1
@@ -24,12 +24,13 @@ class Job:
 
 
 class House:
-    """All jobs, each at the place of its number, and the workers."""
+    """All jobs, each at the place of its number, the workers, and how many starts there have been."""
 
     def __init__(self):
         self.jobs = []
         self.workers = 1
         self.keeps_going = True
+        self.starts = 0
 
 
 def is_there(job):

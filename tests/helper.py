@@ -8,6 +8,7 @@ from scheduledhouse.state import House
 JOB = -1
 RANGE = -2
 LIMIT = -3
+IDLE = -4
 
 END = 0
 START = 1
@@ -40,6 +41,26 @@ def events():
     return [5]
 
 
+def run(*schedule):
+    return [6, len(schedule), *schedule]
+
+
+def lose(j):
+    return [7, j]
+
+
+def status(j):
+    return [8, j]
+
+
+def counts():
+    return [9]
+
+
+def fix(j):
+    return [10, j]
+
+
 def forget():
     return [11]
 
@@ -62,6 +83,29 @@ def ask(*calls):
 def last(*calls):
     """Ask a new house; give what the last call answered."""
     return ask(*calls)[-1]
+
+
+def then(calls, *wished):
+    """These calls, and behind them a run for each of these events, which must be possible ones."""
+    calls = list(calls)
+    for event in wished:
+        listed = last(*calls, events())[1:]
+        possible = list(zip(listed[::2], listed[1::2]))
+        assert event in possible, (event, possible)
+        calls.append(run(possible.index(event)))
+    return calls
+
+
+def built(calls, *numbers):
+    """These calls, and behind them an answer, a start and an end for each of these jobs."""
+    for number in numbers:
+        calls = then(calls, (ANSWER, number), (START, number), (END, number))
+    return calls
+
+
+def statuses(calls, count):
+    """What status answers behind these calls for each of that many jobs."""
+    return ask(*calls, *[status(number) for number in range(count)])[len(calls):]
 
 
 def house_of(*jobs, goals=(), workers=1, keep=1):

@@ -4,8 +4,8 @@ import unittest
 
 from scheduledhouse.calls import add_goals, drop_goals
 from scheduledhouse.events import possible_events
-from tests.helper import (ANSWER, END, FAR, JOB, LIMIT, START, ask, build, drop, events, go, goal, house_of, job, last,
-                          picture)
+from tests.helper import (ANSWER, END, FAR, JOB, LIMIT, START, ask, build, built, counts, drop, events, forget, go, goal,
+                          house_of, job, last, picture, run, statuses, then)
 
 FULL = [job() for number in range(64)]
 THREE = [job(), job(), job()]
@@ -74,6 +74,58 @@ class Goal(unittest.TestCase):
         self.assertEqual([job.cause for job in house.jobs], [0, None, None])
         self.assertEqual(add_goals(house, [1]), [0])
         self.assertEqual([job.cause for job in house.jobs], [0, 0, None])
+
+
+class GoalThroughAnswers(unittest.TestCase):
+    def test_goals_that_are_ended(self):
+        calls = then(built([job(), job(0, 1), job(1), goal(0, 1, 2)], 0, 1), (ANSWER, 2))
+        before = ask(*calls, counts(), events())[-2:]
+        self.assertEqual(before, [[0, 3, 1, 1, 1, 0, 0, 1, 2, 1], [0]])
+        for again in ([goal(0, 1, 2)], [drop(0, 1, 2)], [drop(0, 1, 2), goal(2, 1, 0)]):
+            self.assertEqual(ask(*calls, *again, counts(), events())[-2:], before)
+            self.assertEqual(statuses([*calls, *again], 3), [[5], [7, 1], [6]])
+
+    def test_an_ended_goal_wants_none_of_its_needs(self):
+        calls = then([job(), job(1, needs=[0]), goal(1)], (ANSWER, 1))
+        self.assertEqual(ask(*calls, goal(1), events())[-2:], [[0], [0]])
+
+    def test_opening_a_goal_settles(self):
+        calls = then([job(0, 1), job(needs=[0]), job(needs=[1]), goal(0, 1, 2)], (ANSWER, 0), (ANSWER, 1), (ANSWER, 2))
+        calls = then([*calls, drop(1, 2)], (START, 0), (END, 0))
+        self.assertEqual(statuses(calls, 3), [[7, 0], [0], [0]])
+        self.assertEqual(statuses([*calls, goal(1)], 3), [[7, 0], [7, 0], [0]])
+        self.assertEqual(statuses([*calls, goal(2)], 3), [[7, 0], [7, 0], [7, 0]])
+        self.assertEqual(statuses([*calls, goal(2, 3)], 3), [[7, 0], [0], [0]])
+
+    def test_a_failed_goal_is_wanted_again_once_it_is_forgotten(self):
+        calls = built([job(0, 1), goal(0)], 0)
+        self.assertEqual(statuses([*calls, forget()], 1), [[3]])
+        self.assertEqual(statuses([*calls, drop(0), goal(0), forget()], 1), [[3]])
+        self.assertEqual(statuses([*calls, drop(0), forget()], 1), [[0]])
+
+
+class DropThroughAnswers(unittest.TestCase):
+    CALLS = then([job(), job(needs=[0]), goal(1)], (ANSWER, 1), (ANSWER, 0), (START, 0))
+
+    def test_a_job_goes_on_while_its_goal_is_dropped(self):
+        calls = [*self.CALLS, drop(1)]
+        self.assertEqual(statuses(calls, 2), [[4], [0]])
+        self.assertEqual(ask(*calls, events(), counts(), run(7, 7), events())[-4:],
+                         [[0, 0, 0], [0, 2, 0, 0, 0, 1, 0, 0, 1, 0], [0, 0, 0], [0]])
+        self.assertEqual(statuses([*calls, run(0)], 2), [[5], [0]])
+
+    def test_what_came_of_it_is_there_when_the_goal_comes_back(self):
+        calls = [*self.CALLS, drop(1), run(0), goal(1)]
+        self.assertEqual(statuses(calls, 2), [[5], [3]])
+        self.assertEqual(last(*calls, run(*[0] * 9)), [0, 1, 1, 0, 1])
+
+    def test_a_failing_job_fails_all_the_same(self):
+        calls = then([job(0, 1), goal(0)], (ANSWER, 0), (START, 0))
+        self.assertEqual(statuses([*calls, drop(0), run(0)], 1), [[7, 0]])
+
+    def test_a_goal_that_comes_back_while_its_job_runs_is_not_started_twice(self):
+        calls = then([job(), goal(0)], (ANSWER, 0), (START, 0))
+        self.assertEqual(ask(*calls, drop(0), goal(0), events(), run(*[0] * 9))[-2:], [[0, 0, 0], [0, 0, 0]])
 
 
 class Drop(unittest.TestCase):

@@ -5,8 +5,8 @@ import unittest
 from scheduledhouse.calls import set_keep, set_workers
 from scheduledhouse.events import free_workers, possible_events
 from scheduledhouse.state import House
-from tests.helper import (ANSWER, END, FAR, RANGE, START, ask, build, events, go, goal, house_of, job, keep, last,
-                          picture, workers)
+from tests.helper import (ANSWER, END, FAR, RANGE, START, ask, build, built, counts, events, go, goal, house_of, job,
+                          keep, last, picture, run, statuses, then, workers)
 
 
 class Workers(unittest.TestCase):
@@ -45,6 +45,50 @@ class Workers(unittest.TestCase):
         self.assertEqual(last(job(weight=8), goal(0), workers(8), events()), [0, 2, 0])
 
 
+class WorkersWhileJobsRun(unittest.TestCase):
+    """Jobs of weight 3, 2 and 8, all answered; the first two run and take 5 of 6."""
+
+    CALLS = then([job(weight=3), job(weight=2), job(weight=8), job(), goal(0, 1, 2, 3), workers(6)],
+                 (ANSWER, 0), (ANSWER, 1), (ANSWER, 2), (ANSWER, 3), (START, 0), (START, 1))
+
+    def free(self, *calls):
+        return last(*self.CALLS, *calls, counts())[7]
+
+    def test_fewer(self):
+        self.assertEqual(last(*self.CALLS, events()), [0, 0, 0, 0, 1, 1, 3])
+        self.assertEqual(last(*self.CALLS, workers(5), events()), [0, 0, 0, 0, 1])
+        self.assertEqual(last(*self.CALLS, workers(1), events()), [0, 0, 0, 0, 1])
+        self.assertEqual(statuses([*self.CALLS, workers(1)], 4), [[4], [4], [3], [3]])
+
+    def test_what_they_took_is_taken_until_their_end(self):
+        self.assertEqual([self.free(workers(count)) for count in (1, 4, 5, 6, 7, 8)], [0, 0, 0, 1, 2, 3])
+        self.assertEqual([self.free(workers(count), run(0)) for count in (1, 2, 3, 8)], [0, 0, 1, 6])
+        self.assertEqual([self.free(workers(count), run(1)) for count in (1, 3, 4, 8)], [0, 0, 1, 5])
+
+    def test_a_heavy_job_waits_for_all_the_workers_there_are_now(self):
+        self.assertEqual(last(*self.CALLS, workers(2), run(0), events()), [0, 0, 1])
+        self.assertEqual(last(*self.CALLS, workers(2), run(0, 0), events()), [0, 1, 2, 1, 3])
+        self.assertEqual(self.free(workers(2), run(0, 0, 0)), 0)
+        self.assertEqual(self.free(workers(2), run(0, 0, 0), workers(8)), 6)
+
+    def test_more(self):
+        calls = then([job(weight=8), job(weight=2), job(weight=3), goal(0, 1, 2), workers(2)],
+                     (ANSWER, 0), (ANSWER, 1), (ANSWER, 2), (START, 0))
+        self.assertEqual(last(*calls, events()), [0, 0, 0])
+        self.assertEqual(last(*calls, workers(3), events()), [0, 0, 0])
+        self.assertEqual(last(*calls, workers(4), events()), [0, 0, 0, 1, 1])
+        self.assertEqual(last(*calls, workers(5), events()), [0, 0, 0, 1, 1, 1, 2])
+
+    def test_back_and_forth_is_as_if_nothing_had_been(self):
+        wanted = [events(), counts(), run(*[3] * 20)]
+        self.assertEqual(ask(*self.CALLS, workers(1), workers(8), workers(6), *wanted)[-3:],
+                         ask(*self.CALLS, *wanted)[-3:])
+
+    def test_a_refused_call_leaves_them(self):
+        for count in (0, 9, -1, FAR, -FAR):
+            self.assertEqual(ask(*self.CALLS, workers(count), counts())[-2:], [[RANGE], [0, 4, 0, 0, 0, 2, 4, 1, 2, 0]])
+
+
 class Keep(unittest.TestCase):
     def test_0_and_1_are_taken(self):
         self.assertEqual(ask(keep(0), keep(1), keep(1), keep(0)), [[0]] * 4)
@@ -75,6 +119,11 @@ class Keep(unittest.TestCase):
         self.assertEqual(possible_events(house), [])
         set_keep(house, 1)
         self.assertEqual(possible_events(house), [(ANSWER, 1)])
+
+    def test_through_answers(self):
+        calls = built([job(0, 1), job(), goal(0, 1)], 0)
+        self.assertEqual(ask(*calls, events(), keep(0), events(), keep(2), events(), keep(1), keep(-1), events())[-8:],
+                         [[0, 2, 1], [0], [0], [RANGE], [0], [0], [RANGE], [0, 2, 1]])
 
 
 if __name__ == "__main__":
